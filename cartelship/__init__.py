@@ -1,0 +1,1 @@
+"""Cartelship: men exchanged by rank, and who may serve again."""

@@ -1,0 +1,254 @@
+"""The package keeps to its small part of Python: as many of the rules L1 to L28 as a walk of the code can see."""
+
+import ast
+import builtins
+import pathlib
+import re
+import unittest
+
+PACKAGE = pathlib.Path(__file__).resolve().parent.parent / "cartelship"
+
+CALLS = set("""len range enumerate zip min max sum abs sorted reversed int str bool list tuple dict set frozenset
+isinstance ord repr any all divmod""".split())
+PYTHON_ERRORS = set("""Exception ValueError TypeError KeyError IndexError LookupError ZeroDivisionError ArithmeticError
+OverflowError RuntimeError NotImplementedError AttributeError StopIteration""".split())
+METHODS = set("""append clear copy count endswith extend find get index insert isalnum isalpha isdigit islower isspace
+isupper items join keys ljust lower lstrip partition pop remove replace reverse rfind rjust rpartition rsplit rstrip
+setdefault split splitlines startswith strip update upper values zfill bit_length""".split())
+DUNDER_METHODS = {"__init__", "__eq__", "__repr__", "__str__", "__len__"}
+NOWHERE = set("register mro elements open input version_info with_traceback add_note format format_map".split())
+NO_WORDS = re.compile(
+    r"\b(type|typing|typing_extensions|enum|Enum|IntEnum|StrEnum|Flag|IntFlag|Generic|Protocol|ABC|ABCMeta|namedtuple"
+    r"|NamedTuple|TypedDict|TYPE_CHECKING|abstractmethod)\b|dataclass|overload|contextmanager")
+NODES = """Module Expr ImportFrom alias FunctionDef arguments arg ClassDef Assign AugAssign If While For Return Break
+Continue Pass Raise Try ExceptHandler Call keyword Name Load Store Attribute Subscript Slice Constant List Tuple Dict Set
+BinOp Add Sub Mult FloorDiv Mod Pow BitAnd BitOr BitXor LShift RShift UnaryOp USub UAdd Not Invert BoolOp And Or Compare
+Eq NotEq Lt LtE Gt GtE Is IsNot In NotIn IfExp ListComp comprehension JoinedStr FormattedValue Lambda"""
+NODE_KINDS = tuple(getattr(ast, name) for name in NODES.split())
+
+
+def sign_faults(source):
+    for place, row in enumerate(source.split("\n"), start=1):
+        if any(not " " <= sign <= "~" for sign in row):
+            yield "L14", place
+        if len(row) > 120:
+            yield "L10", place
+        if NO_WORDS.search(row):
+            yield "L17", place
+    if len(source.splitlines()) > 400:
+        yield "L10", 401
+
+
+def top_faults(tree):
+    bound = []
+    for place, node in enumerate(tree.body):
+        if isinstance(node, ast.Expr):
+            if place != 0 or not isinstance(node.value, ast.Constant):
+                yield "L3", node.lineno
+        elif isinstance(node, ast.ImportFrom):
+            if node.level != 0 or not (node.module or "").startswith("cartelship."):
+                yield "L2", node.lineno
+            if any(part.name == "*" or part.name.startswith("__") for part in node.names):
+                yield "L2", node.lineno
+            bound += [part.asname or part.name for part in node.names]
+        elif isinstance(node, ast.Assign):
+            if any(isinstance(each, (ast.Call, ast.ListComp, ast.Set)) for each in ast.walk(node)):
+                yield "L3", node.lineno
+            bound += [target.id for target in node.targets if isinstance(target, ast.Name)]
+        elif isinstance(node, (ast.FunctionDef, ast.ClassDef)):
+            bound.append(node.name)
+        else:
+            yield "L3", node.lineno
+    if len(bound) != len(set(bound)):
+        yield "L15", 1
+
+
+def is_written(node):
+    return isinstance(node, ast.Constant) and isinstance(node.value, int) and 0 <= node.value <= 64
+
+
+def statement_faults(node):
+    if not isinstance(node, NODE_KINDS):
+        yield "L6", getattr(node, "lineno", 0)
+    if isinstance(node, ast.Expr) and not isinstance(node.value, (ast.Call, ast.Constant)):
+        yield "L6", node.lineno
+    if isinstance(node, (ast.For, ast.While)) and node.orelse:
+        yield "L6", node.lineno
+    if isinstance(node, ast.Try) and node.finalbody:
+        yield "L6", node.lineno
+    if isinstance(node, ast.Assign) and len(node.targets) != 1:
+        yield "L6", node.lineno
+    if isinstance(node, (ast.FunctionDef, ast.ClassDef)) and node.decorator_list:
+        yield "L4", node.lineno
+    if isinstance(node, ast.FunctionDef) and node.end_lineno - node.lineno >= 40:
+        yield "L10", node.lineno
+    if isinstance(node, ast.arguments) and (node.vararg or node.kwarg or node.kwonlyargs or node.posonlyargs):
+        yield "L4", 0
+    if isinstance(node, ast.ClassDef):
+        if len(node.bases) > 1 or any(not isinstance(each, (ast.FunctionDef, ast.Pass)) for each in node.body):
+            yield "L5", node.lineno
+    if isinstance(node, ast.ExceptHandler):
+        if node.type is None or any(isinstance(each, ast.Name) and each.id in ("Exception", "TypeError")
+                                    for each in ast.walk(node.type)):
+            yield "L19", node.lineno
+
+
+def value_faults(node):
+    if isinstance(node, ast.Constant):
+        if not isinstance(node.value, (int, str, type(None))):
+            yield "L7", node.lineno
+        if isinstance(node.value, str) and "%" in node.value:
+            yield "L27", node.lineno
+    if isinstance(node, ast.BinOp) and isinstance(node.op, ast.Pow) and not is_written(node.right):
+        yield "L27", node.lineno
+    if isinstance(node, ast.FormattedValue) and (not isinstance(node.value, ast.Name) or node.format_spec):
+        yield "L7", node.lineno
+    if isinstance(node, ast.ListComp) and (len(node.generators) > 1 or len(node.generators[0].ifs) > 1):
+        yield "L7", node.lineno
+    if isinstance(node, ast.Compare) and any(isinstance(each, (ast.Is, ast.IsNot)) for each in node.ops):
+        sides = [node.left] + node.comparators
+        if not any(isinstance(each, ast.Constant) and each.value in (None, True, False) for each in sides):
+            yield "L20", node.lineno
+
+
+def own_names(node):
+    if isinstance(node, ast.Name) and isinstance(node.ctx, ast.Store):
+        return [node.id]
+    if isinstance(node, ast.arg):
+        return [node.arg]
+    if isinstance(node, (ast.FunctionDef, ast.ClassDef)):
+        return [node.name]
+    if isinstance(node, ast.ExceptHandler) and node.name:
+        return [node.name]
+    return []
+
+
+def name_faults(node, methods):
+    line = getattr(node, "lineno", 0)
+    for name in own_names(node):
+        if not re.fullmatch("[A-Za-z][A-Za-z0-9_]*", name) and name not in DUNDER_METHODS:
+            yield "L12", line
+        if hasattr(builtins, name) and not isinstance(node, ast.FunctionDef):
+            yield "L15", line
+        if name in NOWHERE:
+            yield "L17", line
+    if isinstance(node, ast.Name) and isinstance(node.ctx, ast.Load):
+        if hasattr(builtins, node.id) and node.id not in CALLS | PYTHON_ERRORS:
+            yield "L8", line
+    if isinstance(node, ast.Attribute) and (node.attr in NOWHERE or node.attr.startswith("_")):
+        if node.attr != "__init__":
+            yield "L17", line
+    if isinstance(node, ast.Call) and isinstance(node.func, ast.Attribute):
+        if node.func.attr not in METHODS | methods | {"__init__"}:
+            yield "L25", line
+
+
+def class_methods(trees):
+    return {each.name for tree in trees for node in ast.walk(tree) if isinstance(node, ast.ClassDef)
+            for each in node.body if isinstance(each, ast.FunctionDef)}
+
+
+def object_values(trees):
+    return {node.attr for tree in trees for node in ast.walk(tree)
+            if isinstance(node, ast.Attribute) and isinstance(node.ctx, ast.Store)}
+
+
+def faults(source, methods=frozenset()):
+    tree = ast.parse(source)
+    found = list(sign_faults(source)) + list(top_faults(tree))
+    for node in ast.walk(tree):
+        found += list(statement_faults(node)) + list(value_faults(node)) + list(name_faults(node, methods))
+    return found
+
+
+def drawn(tree):
+    return [node.module.split(".")[1] for node in tree.body if isinstance(node, ast.ImportFrom)]
+
+
+def reached(start, graph):
+    seen, waiting = set(), list(graph[start])
+    while waiting:
+        name = waiting.pop()
+        if name not in seen:
+            seen.add(name)
+            waiting += graph[name]
+    return seen
+
+
+class Package(unittest.TestCase):
+    def setUp(self):
+        self.paths = sorted(path for path in PACKAGE.iterdir() if path.name != "__pycache__")
+        self.sources = {path.stem: path.read_text(encoding="utf-8") for path in self.paths}
+        self.trees = {stem: ast.parse(source) for stem, source in self.sources.items()}
+
+    def test_files(self):
+        self.assertIn("__init__", self.sources)
+        for path in self.paths:
+            self.assertRegex(path.name, r"\A([a-z][a-z0-9_]*|__init__|__main__)\.py\Z")
+
+    def test_every_file_keeps_to_the_rules(self):
+        methods = class_methods(self.trees.values())
+        for stem, source in self.sources.items():
+            with self.subTest(stem):
+                self.assertEqual(faults(source, methods), [])
+
+    def test_no_two_files_draw_from_one_another(self):
+        graph = {stem: drawn(tree) for stem, tree in self.trees.items()}
+        for stem in graph:
+            self.assertNotIn(stem, reached(stem, graph))
+
+    def test_no_name_is_a_method_and_a_value(self):
+        trees = self.trees.values()
+        self.assertEqual(class_methods(trees) & object_values(trees), set())
+
+
+class Checks(unittest.TestCase):
+    def assertFault(self, rule, source):
+        with self.subTest(source):
+            self.assertIn(rule, [each for each, line in faults(source)])
+
+    def test_plain_code_has_no_fault(self):
+        self.assertEqual(faults('"""Top."""\n\nMOST = 3\n\n\ndef twice(many):\n    return many * 2\n'), [])
+
+    def test_wrong_files(self):
+        self.assertFault("L10", "x = 1" + " " * 120 + "\n")
+        self.assertFault("L10", "\n" * 401)
+        self.assertFault("L10", "def f():\n" + "    pass\n" * 40)
+        self.assertFault("L14", "# caf\u00e9\n")
+        self.assertFault("L14", "def f():\n\tpass\n")
+        self.assertFault("L17", "# of any type\n")
+
+    def test_wrong_tops(self):
+        self.assertFault("L2", "from os.path import join\n")
+        self.assertFault("L2", "from .errors import Own\n")
+        self.assertFault("L3", "import random\n")
+        self.assertFault("L3", "print(3)\n")
+        self.assertFault("L3", "xs = list(ys)\n")
+        self.assertFault("L15", "x = 1\nx = 2\n")
+
+    def test_wrong_statements(self):
+        self.assertFault("L4", "def f(*xs):\n    pass\n")
+        self.assertFault("L5", "class A:\n    x = 1\n")
+        self.assertFault("L6", "def f(xs):\n    assert xs\n")
+        self.assertFault("L6", "def f(xs):\n    for x in xs:\n        pass\n    else:\n        pass\n")
+        self.assertFault("L6", "def f():\n    a = b = 1\n")
+        self.assertFault("L19", "def f():\n    try:\n        g()\n    except Exception:\n        pass\n")
+
+    def test_wrong_values(self):
+        self.assertFault("L6", "def f(x):\n    return x / 2\n")
+        self.assertFault("L7", "def f():\n    return 1.5\n")
+        self.assertFault("L7", "def f(xs):\n    return f'{xs[0]}'\n")
+        self.assertFault("L20", "def f(x, y):\n    return x is y\n")
+        self.assertFault("L27", "def f():\n    return 'a % b'\n")
+        self.assertFault("L27", "def f(n):\n    return 2 ** n\n")
+
+    def test_wrong_names(self):
+        self.assertFault("L8", "def f(x):\n    return hash(x)\n")
+        self.assertFault("L12", "def f(_x):\n    pass\n")
+        self.assertFault("L15", "def f(list):\n    pass\n")
+        self.assertFault("L17", "def f(x):\n    return x.__class__\n")
+        self.assertFault("L25", "def f(xs):\n    xs.sort()\n")
+
+
+if __name__ == "__main__":
+    unittest.main()
