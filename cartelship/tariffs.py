@@ -27,3 +27,7 @@ def lower(worths, counts):
         weights.append(below)
         below += worth * count
     return weights
+
+
+def ranks_down(worths):
+    return list(range(len(worths) - 1, -1, -1))

@@ -20,6 +20,9 @@ NOWHERE = set("register mro elements open input version_info with_traceback add_
 NO_WORDS = re.compile(
     r"\b(type|typing|typing_extensions|enum|Enum|IntEnum|StrEnum|Flag|IntFlag|Generic|Protocol|ABC|ABCMeta|namedtuple"
     r"|NamedTuple|TypedDict|TYPE_CHECKING|abstractmethod)\b|dataclass|overload|contextmanager")
+WALKS = set("zip enumerate reversed range".split())
+WALK_METHODS = set("items keys values".split())
+WALKERS = set("list tuple dict sorted sum any all enumerate zip".split())
 NODES = """Module Expr ImportFrom alias FunctionDef arguments arg ClassDef Assign AugAssign If While For Return Break
 Continue Pass Raise Try ExceptHandler Call keyword Name Load Store Attribute Subscript Slice Constant List Tuple Dict Set
 BinOp Add Sub Mult FloorDiv Mod Pow BitAnd BitOr BitXor LShift RShift UnaryOp USub UAdd Not Invert BoolOp And Or Compare
@@ -143,6 +146,35 @@ def name_faults(node, methods):
             yield "L25", line
 
 
+def is_walk(node):
+    if not isinstance(node, ast.Call):
+        return False
+    if isinstance(node.func, ast.Attribute):
+        return node.func.attr in WALK_METHODS
+    return isinstance(node.func, ast.Name) and node.func.id in WALKS
+
+
+def walked_on_the_spot(node):
+    """What stands in this node at a place where a walk may stand."""
+    if isinstance(node, (ast.For, ast.comprehension)):
+        return [node.iter]
+    if not isinstance(node, ast.Call):
+        return []
+    if isinstance(node.func, ast.Attribute):
+        return node.args if node.func.attr == "join" and isinstance(node.func.value, ast.Constant) else []
+    if isinstance(node.func, ast.Name) and node.func.id in WALKERS | {"min", "max"}:
+        return node.args[:1] if node.func.id in WALKERS or len(node.args) == 1 else []
+    return []
+
+
+def walk_faults(tree):
+    nodes = list(ast.walk(tree))
+    places = [each for node in nodes for each in walked_on_the_spot(node)]
+    for node in nodes:
+        if is_walk(node) and not any(node is each for each in places):
+            yield "L23", node.lineno
+
+
 def class_methods(trees):
     return {each.name for tree in trees for node in ast.walk(tree) if isinstance(node, ast.ClassDef)
             for each in node.body if isinstance(each, ast.FunctionDef)}
@@ -155,7 +187,7 @@ def object_values(trees):
 
 def faults(source, methods=frozenset()):
     tree = ast.parse(source)
-    found = list(sign_faults(source)) + list(top_faults(tree))
+    found = list(sign_faults(source)) + list(top_faults(tree)) + list(walk_faults(tree))
     for node in ast.walk(tree):
         found += list(statement_faults(node)) + list(value_faults(node)) + list(name_faults(node, methods))
     return found
@@ -241,6 +273,15 @@ class Checks(unittest.TestCase):
         self.assertFault("L20", "def f(x, y):\n    return x is y\n")
         self.assertFault("L27", "def f():\n    return 'a % b'\n")
         self.assertFault("L27", "def f(n):\n    return 2 ** n\n")
+
+    def test_wrong_walks(self):
+        self.assertFault("L23", "def f(xs):\n    return zip(xs, xs)\n")
+        self.assertFault("L23", "def f(xs):\n    pairs = enumerate(xs)\n")
+        self.assertFault("L23", "def f(n):\n    for k in reversed(range(n)):\n        g(k)\n")
+        self.assertFault("L23", "def f(d):\n    return len(d.keys())\n")
+        self.assertFault("L23", "def f(n, xs):\n    return list(zip(xs, range(n)))\n")
+        self.assertEqual(faults("def f(n):\n    return list(range(n)) + [k for k in range(n)]\n"), [])
+        self.assertEqual(faults("def f(d):\n    for k, v in d.items():\n        g(k, max(d.values()))\n"), [])
 
     def test_wrong_names(self):
         self.assertFault("L8", "def f(x):\n    return hash(x)\n")
