@@ -1,101 +1,130 @@
 """The refusals of the program, each by its own name."""
 
 
-# Each refusal stands straight under this one, so that taking one of them by name takes no other.
+# Each refusal stands straight under this one, so that taking one of them by name takes no other. Each tells its own
+# name, as a class is not asked for it here.
 class CartelError(ValueError):
-    pass
+    def spoken(self):
+        return "CartelError"
 
 
 class BadName(CartelError):
-    pass
+    def spoken(self):
+        return "BadName"
 
 
 class Taken(CartelError):
-    pass
+    def spoken(self):
+        return "Taken"
 
 
 class Full(CartelError):
-    pass
+    def spoken(self):
+        return "Full"
 
 
 class NoSide(CartelError):
-    pass
+    def spoken(self):
+        return "NoSide"
 
 
 class NoMan(CartelError):
-    pass
+    def spoken(self):
+        return "NoMan"
 
 
 class BadRank(CartelError):
-    pass
+    def spoken(self):
+        return "BadRank"
 
 
 class Own(CartelError):
-    pass
+    def spoken(self):
+        return "Own"
 
 
 class BadTariff(CartelError):
-    pass
+    def spoken(self):
+        return "BadTariff"
 
 
 class BadLimit(CartelError):
-    pass
+    def spoken(self):
+        return "BadLimit"
 
 
 class BadDay(CartelError):
-    pass
+    def spoken(self):
+        return "BadDay"
 
 
 class NoCartel(CartelError):
-    pass
+    def spoken(self):
+        return "NoCartel"
 
 
 class NoMen(CartelError):
-    pass
+    def spoken(self):
+        return "NoMen"
 
 
 class Twice(CartelError):
-    pass
+    def spoken(self):
+        return "Twice"
 
 
 class Gone(CartelError):
-    pass
+    def spoken(self):
+        return "Gone"
 
 
 class Held(CartelError):
-    pass
+    def spoken(self):
+        return "Held"
 
 
 class NotHeld(CartelError):
-    pass
+    def spoken(self):
+        return "NotHeld"
 
 
 class OffRoll(CartelError):
-    pass
+    def spoken(self):
+        return "OffRoll"
 
 
 class Uneven(CartelError):
-    pass
+    def spoken(self):
+        return "Uneven"
 
 
 class NoPart(CartelError):
-    pass
+    def spoken(self):
+        return "NoPart"
 
 
 class NoDeed(CartelError):
-    pass
+    def spoken(self):
+        return "NoDeed"
 
 
 class NoStep(CartelError):
-    pass
+    def spoken(self):
+        return "NoStep"
 
 
-# No words are made of the number here or below: Python writes out no number of many thousand figures.
+# No words are made of the number when these are made: Python writes out no number of many thousand figures.
 class Breaks(CartelError):
     def __init__(self, number):
         self.number = number
+
+    def spoken(self):
+        return "Breaks " + str(self.number)
 
 
 class BadRow(CartelError):
     def __init__(self, at):
         self.at = at
+
+    def spoken(self):
+        return "BadRow"

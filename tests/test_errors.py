@@ -72,6 +72,17 @@ class Making(unittest.TestCase):
                 named(name)()
 
 
+class Spoken(unittest.TestCase):
+    def test_by_the_name_of_its_class(self):
+        for name in WITH_TEXT + ("CartelError",):
+            self.assertEqual(named(name)("why").spoken(), name)
+        self.assertEqual(errors.BadRow(4).spoken(), "BadRow")
+
+    def test_breaks_with_its_number(self):
+        for number in (1, 7, 120, 10 ** 10):
+            self.assertEqual(errors.Breaks(number).spoken(), f"Breaks {number}")
+
+
 class Raising(unittest.TestCase):
     def test_taken_by_its_own_name_by_the_root_and_by_value_error(self):
         for name in ALL:

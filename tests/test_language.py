@@ -20,6 +20,12 @@ NOWHERE = set("register mro elements open input version_info with_traceback add_
 NO_WORDS = re.compile(
     r"\b(type|typing|typing_extensions|enum|Enum|IntEnum|StrEnum|Flag|IntFlag|Generic|Protocol|ABC|ABCMeta|namedtuple"
     r"|NamedTuple|TypedDict|TYPE_CHECKING|abstractmethod)\b|dataclass|overload|contextmanager")
+# Where Python's own values have a method or a value of that name, an own one may not be called so, but for these.
+OWN_METHODS = METHODS | {"add", "discard"}
+OWN_VALUES = set("count index title find get join lower upper split strip copy add".split())
+PYTHON_KINDS = (str, int, list, tuple, dict, set, frozenset, bytes)
+KEYWORDS = {"sorted": {"key", "reverse"}, "min": {"key", "default"}, "max": {"key", "default"}, "sum": {"start"},
+            "enumerate": {"start"}, "zip": {"strict"}}
 WALKS = set("zip enumerate reversed range".split())
 WALK_METHODS = set("items keys values".split())
 WALKERS = set("list tuple dict sorted sum any all enumerate zip".split())
@@ -175,6 +181,92 @@ def walk_faults(tree):
             yield "L23", node.lineno
 
 
+def parents_of(tree):
+    return {id(child): node for node in ast.walk(tree) for child in ast.iter_child_nodes(node)}
+
+
+def set_stands_well(node, parents):
+    """Beside `in`, `==` or `!=`, or straight within sorted or len, with operators between where there are several."""
+    above = parents[id(node)]
+    while isinstance(above, ast.BinOp):
+        above = parents[id(above)]
+    if isinstance(above, ast.Compare):
+        return all(isinstance(each, (ast.In, ast.NotIn, ast.Eq, ast.NotEq)) for each in above.ops)
+    return isinstance(above, ast.Call) and isinstance(above.func, ast.Name) and above.func.id in ("sorted", "len")
+
+
+def form_faults(tree):
+    parents = parents_of(tree)
+    for node in ast.walk(tree):
+        if isinstance(node, ast.Call) and isinstance(node.func, ast.Name):
+            if node.func.id in ("set", "frozenset") and not set_stands_well(node, parents):
+                yield "L24", node.lineno
+            if node.func.id in CALLS and {each.arg for each in node.keywords} - KEYWORDS.get(node.func.id, set()):
+                yield "L22", node.lineno
+        if isinstance(node, ast.Call) and isinstance(node.func, ast.Attribute) and node.keywords:
+            yield "L22", node.lineno
+        if isinstance(node, ast.Name) and node.id in CALLS and isinstance(node.ctx, ast.Load):
+            above = parents[id(node)]
+            if not (isinstance(above, ast.Call) and above.func is node or isinstance(above, ast.keyword)
+                    or isinstance(above, (ast.Call, ast.Tuple))):
+                yield "L22", node.lineno
+        if isinstance(node, ast.FunctionDef) and node.returns or isinstance(node, ast.arg) and node.annotation:
+            yield "L21", node.lineno
+        if isinstance(node, ast.FunctionDef) and node.name == "__init__":
+            if any(isinstance(each, ast.Return) for each in ast.walk(node)):
+                yield "L28", node.lineno
+        if isinstance(node, ast.Assign) and isinstance(node.targets[0], (ast.Tuple, ast.List)):
+            yield "L6", node.lineno
+
+
+def raise_faults(tree):
+    for node in ast.walk(tree):
+        if isinstance(node, ast.Raise):
+            if not (isinstance(node.exc, ast.Call) and isinstance(node.exc.func, ast.Name)) or node.exc.keywords:
+                yield "L19", node.lineno
+        # None of Python's own errors is taken anywhere in the package, so the rules for taking them are not needed.
+        if isinstance(node, ast.ExceptHandler) and node.type is not None:
+            if any(isinstance(each, ast.Name) and each.id in PYTHON_ERRORS for each in ast.walk(node.type)):
+                yield "L19", node.lineno
+
+
+def class_faults(tree, classes):
+    """A class is called, is a base, is taken by except or stands by isinstance, and is nothing else."""
+    parents = parents_of(tree)
+    for node in ast.walk(tree):
+        if isinstance(node, ast.Name) and node.id in classes:
+            above = parents[id(node)]
+            called = isinstance(above, ast.Call) and (above.func is node or getattr(above.func, "id", "") == "isinstance")
+            if not called and not isinstance(above, (ast.ClassDef, ast.ExceptHandler)):
+                yield "L18", node.lineno
+        if isinstance(node, ast.ClassDef) and node not in tree.body:
+            yield "L15", node.lineno
+
+
+def local_faults(tree):
+    """No parameter and no local is called like a class or an import of its file; what stands at the top is only read."""
+    top = {part.name for node in tree.body if isinstance(node, ast.ImportFrom) for part in node.names}
+    top |= {node.name for node in tree.body if isinstance(node, ast.ClassDef)}
+    kept = {target.id for node in tree.body if isinstance(node, ast.Assign) for target in node.targets
+            if isinstance(node.value, (ast.List, ast.Dict))}
+    for node in tree.body:
+        if isinstance(node, (ast.FunctionDef, ast.ClassDef)):
+            for each in ast.walk(node):
+                if isinstance(each, (ast.Name, ast.arg)) and set(own_names(each)) & (top | kept):
+                    yield "L15", each.lineno
+    parents = parents_of(tree)
+    for node in ast.walk(tree):
+        if isinstance(node, ast.Name) and node.id in kept and isinstance(node.ctx, ast.Load):
+            above = parents[id(node)]
+            read = isinstance(above, ast.Subscript) and isinstance(above.ctx, ast.Load) or isinstance(above, ast.Compare)
+            if not read and not (isinstance(above, ast.Attribute) and above.attr == "get"):
+                yield "L15", node.lineno
+
+
+def is_pythons_own(name):
+    return any(hasattr(kind, name) for kind in PYTHON_KINDS)
+
+
 def class_methods(trees):
     return {each.name for tree in trees for node in ast.walk(tree) if isinstance(node, ast.ClassDef)
             for each in node.body if isinstance(each, ast.FunctionDef)}
@@ -188,6 +280,7 @@ def object_values(trees):
 def faults(source, methods=frozenset()):
     tree = ast.parse(source)
     found = list(sign_faults(source)) + list(top_faults(tree)) + list(walk_faults(tree))
+    found += list(form_faults(tree)) + list(raise_faults(tree)) + list(local_faults(tree))
     for node in ast.walk(tree):
         found += list(statement_faults(node)) + list(value_faults(node)) + list(name_faults(node, methods))
     return found
@@ -228,6 +321,36 @@ class Package(unittest.TestCase):
         graph = {stem: drawn(tree) for stem, tree in self.trees.items()}
         for stem in graph:
             self.assertNotIn(stem, reached(stem, graph))
+
+    def test_classes_stand_where_they_may(self):
+        classes = {node.name for tree in self.trees.values() for node in ast.walk(tree) if isinstance(node, ast.ClassDef)}
+        for stem, tree in self.trees.items():
+            with self.subTest(stem):
+                self.assertEqual(list(class_faults(tree, classes)), [])
+
+    def test_each_name_is_drawn_from_the_file_that_defines_it(self):
+        for stem, tree in self.trees.items():
+            for node in tree.body:
+                if isinstance(node, ast.ImportFrom):
+                    there = self.trees[node.module.split(".")[1]].body
+                    defined = {each.name for each in there if isinstance(each, (ast.FunctionDef, ast.ClassDef))}
+                    defined |= {each.targets[0].id for each in there if isinstance(each, ast.Assign)}
+                    with self.subTest(stem, module=node.module):
+                        self.assertEqual({part.name for part in node.names} - defined, set())
+                        self.assertEqual([part.asname for part in node.names if part.asname], [])
+
+    def test_each_drawn_name_is_used(self):
+        for stem, tree in self.trees.items():
+            used = {node.id for node in ast.walk(tree) if isinstance(node, ast.Name)}
+            for node in tree.body:
+                if isinstance(node, ast.ImportFrom):
+                    with self.subTest(stem, module=node.module):
+                        self.assertEqual({part.name for part in node.names} - used, set())
+
+    def test_own_methods_and_values_are_not_called_like_those_of_pythons_values(self):
+        trees = self.trees.values()
+        self.assertEqual([name for name in class_methods(trees) - OWN_METHODS - DUNDER_METHODS if is_pythons_own(name)], [])
+        self.assertEqual([name for name in object_values(trees) - OWN_VALUES if is_pythons_own(name)], [])
 
     def test_no_name_is_a_method_and_a_value(self):
         trees = self.trees.values()
@@ -282,6 +405,32 @@ class Checks(unittest.TestCase):
         self.assertFault("L23", "def f(n, xs):\n    return list(zip(xs, range(n)))\n")
         self.assertEqual(faults("def f(n):\n    return list(range(n)) + [k for k in range(n)]\n"), [])
         self.assertEqual(faults("def f(d):\n    for k, v in d.items():\n        g(k, max(d.values()))\n"), [])
+
+    def test_wrong_forms(self):
+        self.assertFault("L24", "def f(xs):\n    ys = set(xs)\n")
+        self.assertFault("L24", "def f(xs):\n    for x in set(xs):\n        g(x)\n")
+        self.assertEqual(faults("def f(xs, ys):\n    return len(set(xs) - set(ys)) + len(sorted(set(xs)))\n"), [])
+        self.assertFault("L22", "def f(xs):\n    return list(x=xs)\n")
+        self.assertFault("L22", "def f():\n    g = len\n")
+        self.assertFault("L21", "def f(x: int):\n    return x\n")
+        self.assertFault("L28", "class A:\n    def __init__(self):\n        return None\n")
+        self.assertFault("L6", "def f(xs):\n    a, b = xs\n")
+
+    def test_wrong_errors(self):
+        self.assertFault("L19", "def f():\n    raise\n")
+        self.assertFault("L19", "def f(e):\n    raise e\n")
+        self.assertFault("L19", "def f(x):\n    try:\n        g(x)\n    except ValueError:\n        h(x)\n")
+
+    def test_wrong_classes(self):
+        for source in ("def f():\n    return A\n", "def f(x):\n    x.append(A)\n", "xs = [A]\n"):
+            with self.subTest(source):
+                self.assertEqual([rule for rule, line in class_faults(ast.parse(source), {"A"})], ["L18"])
+
+    def test_wrong_locals_and_tops(self):
+        self.assertFault("L15", "from cartelship.errors import Own\n\n\ndef f(Own):\n    pass\n")
+        self.assertFault("L15", "XS = [1]\n\n\ndef f():\n    XS.append(2)\n")
+        self.assertFault("L15", "XS = {1: 2}\n\n\ndef f():\n    XS[1] = 3\n")
+        self.assertFault("L15", "XS = [1]\n\n\ndef f():\n    return XS\n")
 
     def test_wrong_names(self):
         self.assertFault("L8", "def f(x):\n    return hash(x)\n")
